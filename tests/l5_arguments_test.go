@@ -243,11 +243,9 @@ func textsOf(l []heldSlice) []string {
 	return texts
 }
 
-func TestResultsOfProgramsAreNewMemory(t *testing.T) {
-	rows, l, got, w := crowdedRun()
-	arguments := slicesIn(wholeRun(rows, l, got, w))
-	arguments = append(arguments, slicesIn(rows[:cap(rows)], l[:cap(l)], got[:cap(got)], w[:cap(w)])...)
-	results := append(resultsOfRun(t, rows, l, got, w), resultsOfRun(t, rows, l, got, w)...)
+// wantNewMemory overwrites one slice after the other.
+func wantNewMemory(t *testing.T, results []heldSlice, arguments []heldSlice) {
+	t.Helper()
 	before, argumentsBefore := textsOf(results), textsOf(arguments)
 	for i := range results {
 		results[i].spoil()
@@ -259,6 +257,14 @@ func TestResultsOfProgramsAreNewMemory(t *testing.T) {
 			t.Fatalf("changing result %d changes the arguments to %v", i, now)
 		}
 	}
+}
+
+func TestResultsOfProgramsAreNewMemory(t *testing.T) {
+	rows, l, got, w := crowdedRun()
+	arguments := slicesIn(wholeRun(rows, l, got, w))
+	arguments = append(arguments, slicesIn(rows[:cap(rows)], l[:cap(l)], got[:cap(got)], w[:cap(w)])...)
+	results := append(resultsOfRun(t, rows, l, got, w), resultsOfRun(t, rows, l, got, w)...)
+	wantNewMemory(t, results, arguments)
 }
 
 func TestResultsOfProgramsOutliveTheirArguments(t *testing.T) {

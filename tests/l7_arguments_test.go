@@ -167,17 +167,7 @@ func resultsOfNet(t *testing.T, n impl.Net) []heldSlice {
 func TestResultsOfNetsAreNewMemory(t *testing.T) {
 	n := crowdedNet()
 	results := append(resultsOfNet(t, n), resultsOfNet(t, n)...)
-	before, argumentBefore := textsOf(results), textsOf(wholeNet(n))
-	for i := range results {
-		results[i].spoil()
-		before[i] = results[i].text()
-		if now := textsOf(results); !slices.Equal(now, before) {
-			t.Fatalf("changing result %d changes the results to %v", i, now)
-		}
-		if now := textsOf(wholeNet(n)); !slices.Equal(now, argumentBefore) {
-			t.Fatalf("changing result %d changes the argument to %v", i, now)
-		}
-	}
+	wantNewMemory(t, results, wholeNet(n))
 }
 
 func TestResultsOfNetsOutliveTheirArguments(t *testing.T) {

@@ -215,17 +215,7 @@ func TestResultsOfPollsAreNewMemory(t *testing.T) {
 	p, l := crowdedPoll(), crowdedActs()
 	arguments := append(wholePoll(p), sliceOf[impl.PollAct](l[:cap(l)]))
 	results := append(resultsOfPoll(t, p, l), resultsOfPoll(t, p, l)...)
-	before, argumentsBefore := textsOf(results), textsOf(arguments)
-	for i := range results {
-		results[i].spoil()
-		before[i] = results[i].text()
-		if now := textsOf(results); !slices.Equal(now, before) {
-			t.Fatalf("changing result %d changes the results to %v", i, now)
-		}
-		if now := textsOf(arguments); !slices.Equal(now, argumentsBefore) {
-			t.Fatalf("changing result %d changes the arguments to %v", i, now)
-		}
-	}
+	wantNewMemory(t, results, arguments)
 }
 
 func TestResultsOfPollsOutliveTheirArguments(t *testing.T) {
