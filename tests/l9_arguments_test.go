@@ -331,10 +331,9 @@ func textsOfResults(results [][]heldSlice) [][]string {
 	return texts
 }
 
-func TestResultsOfGroupsAreNewMemory(t *testing.T) {
-	g, l := crowdedGroup(), crowdedGroupActs()
-	arguments := wholeOfGroup(g, l)
-	results := append(resultsOfGroup(t, g, l), resultsOfGroup(t, g, l)...)
+// wantNewResults overwrites one slice of one result after the other.
+func wantNewResults(t *testing.T, results [][]heldSlice, arguments []heldSlice) {
+	t.Helper()
 	before, argumentsBefore := textsOfResults(results), textsOf(arguments)
 	for i, held := range results {
 		for j, x := range held {
@@ -351,6 +350,12 @@ func TestResultsOfGroupsAreNewMemory(t *testing.T) {
 			t.Fatalf("changing result %d changes the arguments to %v", i, now)
 		}
 	}
+}
+
+func TestResultsOfGroupsAreNewMemory(t *testing.T) {
+	g, l := crowdedGroup(), crowdedGroupActs()
+	results := append(resultsOfGroup(t, g, l), resultsOfGroup(t, g, l)...)
+	wantNewResults(t, results, wholeOfGroup(g, l))
 }
 
 func TestResultsOfGroupsOutliveTheirArguments(t *testing.T) {
